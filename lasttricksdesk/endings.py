@@ -9,6 +9,13 @@ TURN = 3
 VALUE = 4
 CARDS = 5
 LINE = 6
+ACCOUNT = 7
+PAST = 8
+TABLE = 9
+ALIKE = 10
+SQUEEZED = 11
+CAN = 12
+TOLD = 13
 
 
 class Reader:
@@ -50,6 +57,12 @@ def deal(ending, reader):
     return ending.deal(trump, leader, reader.rows(4))
 
 
+def can(ending, reader):
+    """Read and answer what stands behind the number of a can."""
+    side = reader.number()
+    return ending.can(side, reader.number())
+
+
 def answer_next(ending, reader):
     """Read the call that comes next, and answer it."""
     call = reader.number()
@@ -67,6 +80,20 @@ def answer_next(ending, reader):
         return ending.cards()
     if call == LINE:
         return ending.line()
+    if call == ACCOUNT:
+        return ending.account(reader.row())
+    if call == PAST:
+        return ending.past()
+    if call == TABLE:
+        return ending.table()
+    if call == ALIKE:
+        return ending.alike(reader.number())
+    if call == SQUEEZED:
+        return ending.squeezed()
+    if call == CAN:
+        return can(ending, reader)
+    if call == TOLD:
+        return ending.told()
     raise ValueError(f"no such call: {call}")
 
 

@@ -1,7 +1,10 @@
 """The ending that is held, and what each call does to it and answers."""
 
+from lasttricksdesk.account import account_of, may_be_played
+from lasttricksdesk.heights import alike_in, squeezed_row
 from lasttricksdesk.position import Position
-from lasttricksdesk.refusals import card_not_there, hands_not_right, must_follow, no_cards, out_of_range
+from lasttricksdesk.refusals import card_not_there, hands_not_right, may_not_be_played, must_follow
+from lasttricksdesk.refusals import no_cards, not_for_a_table, out_of_range
 from lasttricksdesk.search import Search
 from lasttricksdesk.tricks import side_of
 
@@ -26,6 +29,19 @@ def hands_are_right(hands):
             return False
         cards.extend(hand)
     return len(set(cards)) == len(cards)
+
+
+def counted(cards):
+    """The cards, with how many they are ahead of them."""
+    return [len(cards)] + list(cards)
+
+
+def all_counted(rows):
+    """The rows one behind another, each with its count ahead."""
+    told = []
+    for row in rows:
+        told.extend(counted(row))
+    return told
 
 
 class Ending:
@@ -57,6 +73,10 @@ class Ending:
     def standing(self):
         """What play, back and turn answer alike."""
         return [0, self.position.on_turn(), self.won[0], self.won[1]]
+
+    def rows_now(self):
+        """The hands of seats 0 to 3, then the trick."""
+        return list(self.position.hands) + [self.position.trick]
 
     def deal(self, trump, leader, hands):
         """A new ending, with these hands as they came, unsorted."""
@@ -95,8 +115,7 @@ class Ending:
 
     def turn(self):
         """Who is on turn, the tricks won, and what may be played."""
-        cards = self.position.choices()
-        return self.standing() + [len(cards)] + cards
+        return self.standing() + counted(self.position.choices())
 
     def value(self):
         """The value of the position now."""
@@ -113,5 +132,54 @@ class Ending:
 
     def line(self):
         """The cards from here to the end, each the least that keeps."""
-        cards = self.search.line(self.position)
-        return [0, len(cards)] + cards
+        return [0] + counted(self.search.line(self.position))
+
+    def account(self, cards):
+        """What these cards would come to, played from here on."""
+        if not row_in_range(cards, 16):
+            return out_of_range()
+        if not may_be_played(self.position, cards):
+            return may_not_be_played()
+        return [0] + account_of(self.search, self.position, cards)
+
+    def past(self):
+        """What the cards played since the deal come to."""
+        return [0] + account_of(self.search, self.dealt, self.played)
+
+    def table(self):
+        """The value of the hands with each trump and each leader."""
+        if not self.position.between_tricks() or self.position.cards_left() > 12:
+            return not_for_a_table()
+        answer = [0]
+        for trump in range(5):
+            for leader in range(4):
+                answer.append(self.search.value(Position(self.position.hands, trump, leader, ())))
+        return answer
+
+    def alike(self, card):
+        """The cards that are as good as this one in the hand that has it."""
+        if not in_range(card, 0, 51):
+            return out_of_range()
+        hand = self.position.hand_with(card)
+        if hand is None:
+            return card_not_there()
+        return [0] + counted(alike_in(hand, card, self.position.seen()))
+
+    def squeezed(self):
+        """The hands and the trick, each card as high as can be."""
+        seen = self.position.seen()
+        return [0] + all_counted([squeezed_row(row, seen) for row in self.rows_now()])
+
+    def can(self, side, k):
+        """Whether the side can make sure of at least k of the tricks left."""
+        if not in_range(side, 0, 1) or not in_range(k, 0, 4):
+            return out_of_range()
+        most = self.search.value(self.position)
+        if side == 1:
+            most = self.position.tricks_left() - most
+        return [0, 1 if k <= most else 0]
+
+    def told(self):
+        """All that is held."""
+        rows = self.rows_now() + [self.played]
+        return [0, self.position.trump, self.position.leader] + all_counted(rows)

@@ -30,7 +30,29 @@ class Position:
 
     def has_cards(self):
         """Whether any hand has a card."""
-        return any([len(hand) > 0 for hand in self.hands])
+        return self.cards_left() > 0
+
+    def cards_left(self):
+        """How many cards all hands have."""
+        return sum([len(hand) for hand in self.hands])
+
+    def tricks_left(self):
+        """How many tricks are not whole yet, a begun one counted."""
+        return (self.cards_left() + len(self.trick)) // 4
+
+    def seen(self):
+        """All cards of the hands and of the begun trick."""
+        cards = list(self.trick)
+        for hand in self.hands:
+            cards.extend(hand)
+        return cards
+
+    def hand_with(self, card):
+        """The hand that has the card, or None."""
+        for hand in self.hands:
+            if card in hand:
+                return hand
+        return None
 
     def behind(self, card):
         """The position behind the card, played by the seat on turn."""

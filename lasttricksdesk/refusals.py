@@ -17,10 +17,20 @@ def no_cards():
 
 
 def card_not_there():
-    """The card is not in the hand that it is asked of."""
+    """The card is not in the hand on turn, or, where any hand would do, in none."""
     return [-4]
 
 
 def must_follow():
     """The suit of the trick's first card must be followed."""
     return [-5]
+
+
+def may_not_be_played():
+    """One of the cards may not be played when it is its turn."""
+    return [-6]
+
+
+def not_for_a_table():
+    """Too many cards are left, or a trick is begun."""
+    return [-7]

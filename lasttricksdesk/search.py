@@ -3,6 +3,14 @@
 from lasttricksdesk.tricks import side_of
 
 
+def trick_of_side_0(behind):
+    """1 if the card that led to this position made a trick whole and side 0 won it, else 0."""
+    winner = behind.winner_behind()
+    if winner is not None and side_of(winner) == 0:
+        return 1
+    return 0
+
+
 class Search:
     """Tells values, and keeps those it found between two tricks.
 
@@ -34,10 +42,14 @@ class Search:
     def value_by(self, position, card):
         """The value by the card, which the seat on turn may play."""
         behind = position.behind(card)
-        winner = behind.winner_behind()
-        if winner is not None and side_of(winner) == 0:
-            return 1 + self.value(behind)
-        return self.value(behind)
+        return trick_of_side_0(behind) + self.value(behind)
+
+    def gift(self, position, card):
+        """How many tricks the seat on turn gives away with the card, which it may play."""
+        lost = self.value(position) - self.value_by(position, card)
+        if side_of(position.on_turn()) == 0:
+            return lost
+        return -lost
 
     def least_that_keeps(self, position):
         """The card with the least number that keeps; there is a card to play."""

@@ -6,6 +6,11 @@ def suit_of(card):
     return card // 13
 
 
+def top_of(suit):
+    """The highest card of the suit."""
+    return 13 * suit + 12
+
+
 def side_of(seat):
     """The side of the seat, 0 or 1."""
     return seat % 2

@@ -9,6 +9,10 @@ TURN = [3]
 VALUE = [4]
 CARDS = [5]
 LINE = [6]
+PAST = [8]
+TABLE = [9]
+SQUEEZED = [11]
+TOLD = [13]
 
 FAR = 10 ** 18
 
@@ -29,6 +33,18 @@ def play(card):
 
 def plays(*cards):
     return [play(card) for card in cards]
+
+
+def account(*cards):
+    return [7, len(cards)] + list(cards)
+
+
+def alike(card):
+    return [10, card]
+
+
+def can(side, k):
+    return [12, side, k]
 
 
 def split(told):
@@ -58,8 +74,11 @@ class EndingCase(unittest.TestCase):
         return run(*calls)[-1]
 
     def state_behind(self, *calls):
-        """All that can be asked of an ending, back to how it was dealt."""
-        probes = [TURN, CARDS, VALUE, LINE] + [BACK, TURN] * 17
+        """All that can be asked of an ending, back to how it was dealt.
+
+        Four of these calls are of those that a line may have six of.
+        """
+        probes = [TOLD, TURN, CARDS, VALUE, LINE, PAST] + [BACK, TOLD] * 17
         return run(*calls, *probes)[len(calls):]
 
     def assert_refused(self, ahead, call, refusal):

@@ -15,11 +15,13 @@ class Plain:
         self.leader = leader
         self.hands = [set(hand) for hand in hands]
         self.trick = []
+        self.played = []
         self.won = [0, 0]
 
     def twin(self):
         other = Plain(self.trump, self.leader, self.hands)
         other.trick = list(self.trick)
+        other.played = list(self.played)
         other.won = list(self.won)
         return other
 
@@ -38,6 +40,7 @@ class Plain:
         seat = self.on_turn()
         self.hands[seat].remove(card)
         self.trick.append(card)
+        self.played.append(card)
         if len(self.trick) == 4:
             self.close()
 
@@ -60,6 +63,80 @@ class Plain:
         behind = self.twin()
         behind.play(card)
         return behind.won[0] - self.won[0] + behind.value()
+
+    def sure(self, side, k):
+        """Whether the side gets k tricks more, whatever the other one plays."""
+        if k <= 0:
+            return True
+        cards = self.may_play()
+        if not cards:
+            return False
+        enough = any if self.on_turn() % 2 == side else all
+        return enough(self.sure_by(side, k, card) for card in cards)
+
+    def sure_by(self, side, k, card):
+        behind = self.twin()
+        behind.play(card)
+        return behind.sure(side, k - (behind.won[side] - self.won[side]))
+
+    def tricks_left(self):
+        return (len(self.trick) + sum(len(hand) for hand in self.hands)) // 4
+
+    def gift(self, card):
+        values = {card: self.value_by(card) for card in self.may_play()}
+        if self.on_turn() in (0, 2):
+            return max(values.values()) - values[card]
+        return values[card] - min(values.values())
+
+    def told_account(self, cards):
+        position = self.twin()
+        gifts = []
+        given = [0, 0]
+        for card in cards:
+            gifts.append(position.gift(card))
+            given[position.on_turn() % 2] += gifts[-1]
+            position.play(card)
+        won = position.won[0] - self.won[0]
+        return [0, self.value(), given[0], given[1], won, position.value()] + gifts
+
+    def told_table(self):
+        values = [Plain(trump, leader, self.hands).value() for trump in range(5) for leader in range(4)]
+        return [0] + values
+
+    @staticmethod
+    def parts(card, first, second):
+        """Whether the card, of another hand or of the trick, lies between two of one suit."""
+        return first < card < second or second < card < first
+
+    def told_alike(self, card):
+        hand = [hand for hand in self.hands if card in hand][0]
+        others = set(self.trick).union(*self.hands) - hand
+        alike = [held for held in sorted(hand) if held // 13 == card // 13
+                 and not any(self.parts(other, held, card) for other in others)]
+        return [0, len(alike)] + alike
+
+    def told_squeezed(self):
+        """Suit by suit from the top, each next card takes the highest number that is left."""
+        seen = set(self.trick).union(*self.hands)
+        numbers = {}
+        for suit in range(4):
+            free = 13 * suit + 12
+            for card in sorted((card for card in seen if card // 13 == suit), reverse=True):
+                numbers[card] = free
+                free -= 1
+        told = [0]
+        for row in self.rows():
+            told += [len(row)] + [numbers[card] for card in row]
+        return told
+
+    def rows(self):
+        return [sorted(hand) for hand in self.hands] + [self.trick]
+
+    def told_told(self):
+        told = [0, self.trump, self.leader]
+        for row in self.rows() + [self.played]:
+            told += [len(row)] + row
+        return told
 
     def told_standing(self):
         return [0, self.on_turn(), self.won[0], self.won[1]]

@@ -96,6 +96,43 @@ class Language(unittest.TestCase):
                 self.assertIsNone(alias.asname, name)
                 self.assertNotEqual(alias.name, "*", name)
 
+    def test_imports_are_from_the_file_that_defines_the_name_and_never_in_a_ring(self):
+        drawn = {path.stem: set() for path in self.trees}
+        tops = {path.stem: [node.name for node in tree.body if isinstance(node, (ast.FunctionDef, ast.ClassDef))]
+                for path, tree in self.trees.items()}
+        for path, tree in self.trees.items():
+            for node in tree.body:
+                if isinstance(node, ast.ImportFrom):
+                    source = node.module.split(".")[1]
+                    drawn[path.stem].add(source)
+                    for alias in node.names:
+                        self.assertIn(alias.name, tops[source], (path.name, source))
+        while drawn:
+            ends = [stem for stem, sources in drawn.items() if not sources & set(drawn)]
+            self.assertNotEqual(ends, [], drawn)
+            for stem in ends:
+                drawn.pop(stem)
+
+    def test_each_name_once_at_a_file_s_top(self):
+        for path, tree in self.trees.items():
+            tops = []
+            for node in tree.body:
+                if isinstance(node, (ast.FunctionDef, ast.ClassDef)):
+                    tops.append(node.name)
+                elif isinstance(node, ast.ImportFrom):
+                    tops += [alias.name for alias in node.names]
+                elif isinstance(node, ast.Assign):
+                    tops.append(node.targets[0].id)
+            self.assertEqual(sorted(tops), sorted(set(tops)), path.name)
+            inner = {node.arg for node in ast.walk(tree) if isinstance(node, ast.arg)}
+            inner |= {node.id for top in tree.body if not isinstance(top, ast.Assign) for node in ast.walk(top)
+                      if isinstance(node, ast.Name) and isinstance(node.ctx, ast.Store)}
+            self.assertEqual(sorted(inner & set(tops)), [], path.name)
+
+    def test_the_interface_stands_where_its_name_tells(self):
+        found = [(name, node.name) for name, node in self.nodes(ast.FunctionDef) if node.name == "answers"]
+        self.assertEqual(found, [("endings.py", "answers")])
+
     def test_functions_have_plain_parameters(self):
         for name, node in self.nodes(ast.FunctionDef):
             given = node.args

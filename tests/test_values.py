@@ -4,6 +4,7 @@ import unittest
 
 from calls import BACK, CARDS, LINE, TURN, VALUE, EndingCase, deal, play, plays, run
 from plain import Plain, random_hands, seeded
+from walks import along, kinds
 
 # Seat 2 has the highest and the third highest card, the second highest is ahead of it or behind it.
 KING_AHEAD = deal(4, 0, [0, 1], [11, 2], [12, 10], [3, 4])
@@ -103,24 +104,15 @@ class AgainstThePlainSearch(EndingCase):
         told = run(*ahead, VALUE, CARDS, LINE)[-3:]
         self.assertEqual(told, [[0, plain.value()], plain.told_cards(), plain.told_line()])
 
-    def all_along(self, chance, size, trump, leader, pack=range(52)):
+    def all_along(self, *chosen):
         """An ending played by chance, asked at its deal and behind each card."""
-        hands = random_hands(chance, size, pack)
-        plain = Plain(trump, leader, hands)
-        ahead = [deal(trump, leader, *hands)]
-        self.same(plain, ahead)
-        while plain.may_play():
-            card = chance.choice(plain.may_play())
-            plain.play(card)
-            ahead.append(play(card))
+        for plain, ahead in along(*chosen):
             self.same(plain, ahead)
 
     def test_up_to_three_cards_with_each_trump_and_leader(self):
         chance = seeded(7)
-        for size in range(4):
-            for trump in range(5):
-                for leader in range(4):
-                    self.all_along(chance, size, trump, leader)
+        for size, trump, leader in kinds(range(4)):
+            self.all_along(chance, size, trump, leader)
 
     def test_three_cards_of_two_suits(self):
         chance = seeded(8)
